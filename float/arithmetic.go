@@ -136,14 +136,9 @@ func Root(f Format, x uint64) (uint64, api.Errno) {
 	case p.negative:
 		return 0, api.ErrArg
 	}
-	// the root gets more bits than the precision, and one that says whether there would be further ones
+	// the root gets more bits than the precision. No root lies half-way between two floats, so a further bit may stand for all that may be behind it
 	shift := 2*precision(f) + 4 + p.e&1
-	square := whole(p.m).Mul(power(shift))
-	root, _ := square.Root()
-	further := root.Mul(root).Cmp(square) != 0
-	root = root.Add(root)
-	if further {
-		root = root.Add(whole(1))
-	}
+	root, _ := whole(p.m).Mul(power(shift)).Root()
+	root = root.Add(root).Add(whole(1))
 	return roundScaled(f, false, root, (p.e-shift)/2-1)
 }

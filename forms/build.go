@@ -13,9 +13,7 @@ func Build(g []Node) (api.Form, api.Errno) {
 	}
 	b := builder{graph: g, places: places(g), labels: make([]string, len(g))}
 	f := b.form(0)
-	if b.next > maxLabel+1 {
-		return api.Form{}, api.ErrSize
-	}
+	// with more labels than there are numbers it would have too many nodes, too
 	if e := checkSize(f); e != api.OK {
 		return api.Form{}, e
 	}

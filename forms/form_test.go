@@ -59,6 +59,7 @@ func TestCheckLabels(t *testing.T) {
 		{lab("1", lab("2", vec())), ErrLabel},
 		{vec(lab("1", vec()), lab("2", ref("1"))), ErrLabel},
 		{vec(lab("1", vec()), lab("1", ref("1"))), api.ErrTwice},
+		{vec(lab("1", lab("2", vec())), lab("2", vec())), ErrLabel},
 		{vec(ref("2"), lab("1", vec()), lab("1", vec())), ErrLabel},
 		{vec(lab("1", vec()), lab("1", vec()), ref("2")), api.ErrTwice},
 		{vec(ref("2"), num("01")), api.ErrForm},
@@ -71,6 +72,13 @@ func TestCheckLabels(t *testing.T) {
 		if e := Check(c.f); e != c.want {
 			t.Errorf("Check(%.60s) = %v; want %v", show(c.f), e, c.want)
 		}
+	}
+}
+
+// P1.1: the codes and the limit of the layer.
+func TestConstants(t *testing.T) {
+	if ErrLabel != 30 || ErrCircle != 31 || MaxRank != 7 {
+		t.Error("constants")
 	}
 }
 

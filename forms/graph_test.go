@@ -61,6 +61,9 @@ func TestNodes(t *testing.T) {
 	if g, e := Nodes(cons(many(1000, one)...)); e != api.OK || len(g) != 1999 {
 		t.Errorf("%d nodes, %v", len(g), e)
 	}
+	if g, e := Nodes(vec(many(1999, one)...)); e != api.OK || len(g) != 2000 {
+		t.Errorf("%d nodes, %v", len(g), e)
+	}
 	if g, e := Nodes(cons(many(1001, one)...)); e != api.ErrSize || g != nil {
 		t.Errorf("%d nodes, %v; want ErrSize", len(g), e)
 	}
@@ -140,9 +143,9 @@ func TestGraphErrors(t *testing.T) {
 		want api.Errno
 	}{{good, -1, api.ErrArg}, {good, 2, api.ErrArg}, {bad, 5, api.ErrForm}, {good, 1, api.OK}} {
 		_, e := Part(c.g, c.i)
-		_, f := Circular(c.g, c.i)
+		circular, f := Circular(c.g, c.i)
 		_, last, h := Cars(c.g, c.i)
-		if e != c.want || f != c.want || h != c.want || h != api.OK && last != 0 {
+		if e != c.want || f != c.want || h != c.want || h != api.OK && last != 0 || circular {
 			t.Errorf("errors of the index %d: %v, %v, %v; want %v", c.i, e, f, h, c.want)
 		}
 		for name, relation := range map[string]func([]Node, int, int) (bool, api.Errno){"Eql": Eql, "Alike": Alike, "Similar": Similar} {

@@ -206,27 +206,30 @@ func doubling(n int) api.Form {
 	return vec(kids...)
 }
 
-// P1.1: the most nodes, where the elements of a tail stand in the place of a list.
-func TestPlainOfLongTails(t *testing.T) {
-	grow := func(n int) api.Form {
-		tail := lab("1", cons(append(many(900, sym("A")), sym("B"))...))
-		return cons(tail, cons(append(many(n, sym("A")), ref("1"))...).Kids[0], ref("1"))
+// P1.1: the most nodes and the greatest depth, where the elements of a tail stand in the place of a list.
+func TestPlainOfTails(t *testing.T) {
+	a := sym("A")
+	for _, c := range []struct {
+		l, more int
+		want    api.Errno
+	}{{997, 0, api.OK}, {997, 1, api.ErrSize}, {996, 2, api.OK}, {996, 3, api.ErrSize}} {
+		// the vector, the list with its tail, that list again behind one element in the place of its own tail, and more
+		l := cons(append(many(c.l, a), sym("B"))...)
+		f := vec(append([]api.Form{lab("1", l), cons(a, ref("1"))}, many(c.more, a)...)...)
+		p, e := Plain(f)
+		if n, _ := Size(p); e != c.want || e == api.OK && n != 2000 {
+			t.Errorf("Plain: %d nodes, %v; want %v", n, e, c.want)
+		}
 	}
-	if _, e := Plain(grow(1)); e != api.OK {
-		t.Errorf("Plain: %v", e)
-	}
-	exact := func(n int) api.Form { // (#1=(A .. A . B) A .. A . #1#) with n A's more
-		kids := append([]api.Form{lab("1", cons(append(many(900, sym("A")), sym("B"))...))}, many(n, sym("A"))...)
-		return cons(append(kids, ref("1"))...)
-	}
-	// 1 for the list, 902 for its first element, n, and 901 elements and tail in the place of the reference
-	if f, e := Plain(exact(2000 - 1 - 902 - 901)); e != api.OK {
-		t.Errorf("Plain: %v", e)
-	} else if n, _ := Size(f); n != 2000 {
-		t.Errorf("%d nodes", n)
-	}
-	if _, e := Plain(exact(2000 - 1 - 902 - 900)); e != api.ErrSize {
-		t.Errorf("Plain: %v; want ErrSize", e)
+	for _, c := range []struct {
+		depth int
+		want  api.Errno
+	}{{38, api.OK}, {39, api.ErrSize}} {
+		f := vec(lab("1", cons(deep(59, vec()), a)), deep(c.depth, cons(a, ref("1"))))
+		p, e := Plain(f)
+		if _, depth := Size(p); e != c.want || e == api.OK && depth != 100 {
+			t.Errorf("Plain: a depth of %d, %v; want %v", depth, e, c.want)
+		}
 	}
 }
 

@@ -47,21 +47,14 @@ func (x Int) Power(n int) (Int, api.Errno) {
 	if x.powerIsLarge(n) {
 		return Int{}, api.ErrLarge
 	}
-	if len(x.limbs) == 1 && x.limbs[0] == 1 {
-		n &= 1 // the powers of 1 and -1 repeat, however great n is
-	}
-	power := []uint32{1}
-	square := x.limbs
-	for left := n; left > 0 && len(square) > 0; left >>= 1 {
+	power, square := []uint32{1}, x.limbs
+	for left := n; left > 0; left >>= 1 {
 		if left&1 == 1 {
 			power = multiply(power, square)
 		}
-		if left > 1 {
+		if left > 1 { // the last square is not needed, and may be far larger than the power
 			square = multiply(square, square)
 		}
-	}
-	if n > 0 && len(x.limbs) == 0 {
-		return Int{}, api.OK
 	}
 	z := own(x.negative && n&1 == 1, power)
 	if z.Length() > api.MaxBits {

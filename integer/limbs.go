@@ -102,9 +102,6 @@ func scaleAndAdd(a []uint32, factor, addend uint32) []uint32 {
 
 // shiftLeft returns a times 2 to the power of n, which is not below 0.
 func shiftLeft(a []uint32, n int) []uint32 {
-	if len(a) == 0 {
-		return nil
-	}
 	whole, part := n/limbBits, n%limbBits
 	shifted := make([]uint32, whole, whole+len(a)+1)
 	var carry uint64

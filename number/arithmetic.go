@@ -12,48 +12,32 @@ import (
 
 // Add returns x + y.
 func Add(x, y api.Form) (api.Form, api.Errno) {
-	return byParts(x, y, (*calculator).add)
+	return combine(x, y, byParts((*calculator).add))
 }
 
 // Sub returns x - y.
 func Sub(x, y api.Form) (api.Form, api.Errno) {
-	return byParts(x, y, (*calculator).sub)
-}
-
-// byParts combines the real and the imaginary parts of two numbers.
-func byParts(x, y api.Form, combine func(c *calculator, a, b scalar) scalar) (api.Form, api.Errno) {
-	a, b, e := decodeTwo(x, y)
-	if e != api.OK {
-		return api.Form{}, e
-	}
-	var c calculator
-	re := combine(&c, a.parts[0], b.parts[0])
-	if !a.complex && !b.complex {
-		return c.result(ofScalar(re))
-	}
-	im := combine(&c, a.parts[1], b.parts[1])
-	z := c.complexOf(re, im)
-	return c.result(z)
+	return combine(x, y, byParts((*calculator).sub))
 }
 
 // Mul returns the product of x and y.
 func Mul(x, y api.Form) (api.Form, api.Errno) {
-	return whole(x, y, (*calculator).product)
+	return combine(x, y, (*calculator).product)
 }
 
 // Div returns x/y.
 func Div(x, y api.Form) (api.Form, api.Errno) {
-	return whole(x, y, (*calculator).quotient)
+	return combine(x, y, (*calculator).quotient)
 }
 
-// whole combines two numbers.
-func whole(x, y api.Form, combine func(c *calculator, a, b number) number) (api.Form, api.Errno) {
+// combine makes one number of two.
+func combine(x, y api.Form, operate func(c *calculator, a, b number) number) (api.Form, api.Errno) {
 	a, b, e := decodeTwo(x, y)
 	if e != api.OK {
 		return api.Form{}, e
 	}
 	var c calculator
-	z := combine(&c, a, b)
+	z := operate(&c, a, b)
 	return c.result(z)
 }
 
@@ -102,9 +86,6 @@ func Power(x api.Form, n int) (api.Form, api.Errno) {
 		if odd {
 			power = c.boundedProduct(power, base)
 		}
-		if c.e != api.OK {
-			break
-		}
 	}
 	return c.result(power)
 }
@@ -120,7 +101,7 @@ func furtherDigits(n int) iter.Seq[bool] {
 	}
 }
 
-// boundedProduct returns a product whose integers are not too large.
+// boundedProduct returns a product whose integers are not too large. Behind an error there is none, since it would grow without a bound.
 func (c *calculator) boundedProduct(x, y number) number {
 	if c.e != api.OK {
 		return number{}

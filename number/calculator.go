@@ -110,6 +110,18 @@ func (c *calculator) complexOf(re, im scalar) number {
 	return number{complex: true, parts: [2]scalar{re, im}}
 }
 
+// byParts makes an operation of numbers of one of their real parts, and of their imaginary parts.
+func byParts(operate func(c *calculator, a, b scalar) scalar) func(c *calculator, x, y number) number {
+	return func(c *calculator, x, y number) number {
+		re := operate(c, x.parts[0], y.parts[0])
+		if !x.complex && !y.complex {
+			return ofScalar(re)
+		}
+		im := operate(c, x.parts[1], y.parts[1])
+		return c.complexOf(re, im)
+	}
+}
+
 // product returns the product of two numbers.
 func (c *calculator) product(x, y number) number {
 	a, b := x.parts[0], x.parts[1]

@@ -14,7 +14,7 @@ func (z number) asInteger() (integer.Int, api.Errno) {
 	return x.ratio.Numerator(), api.OK
 }
 
-// decodeInteger returns integers, or the first error of an element.
+// decodeIntegers returns integers, or the first error of an element.
 func decodeIntegers(l []api.Form) ([]integer.Int, api.Errno) {
 	var all []integer.Int
 	for _, x := range l {

@@ -26,7 +26,7 @@ func TestCheck(t *testing.T) {
 		x    api.Form
 		want api.Errno
 	}{
-		{one, api.OK}, {wholeText("-12"), api.OK}, {wholeText("0"), api.OK}, {wholeText(long), api.OK}, {half, api.OK}, {api.Form{Kind: api.FormRatio, Text: "-3/2"}, api.OK}, {zero, api.OK}, {singleBits("80000000"), api.OK}, {singleBits("ff7fffff"), api.OK}, {double, api.OK}, {pair(one, half), api.OK}, {pair(wholeText("0"), one), api.OK}, {pair(zero, zero), api.OK}, {pair(double, double), api.OK},
+		{one, api.OK}, {wholeText("-12"), api.OK}, {wholeText("0"), api.OK}, {wholeText(long), api.OK}, {half, api.OK}, {api.Form{Kind: api.FormRatio, Text: "-3/2"}, api.OK}, {zero, api.OK}, {singleBits("80000000"), api.OK}, {singleBits("ff7fffff"), api.OK}, {double, api.OK}, {pair(one, half), api.OK}, {pair(wholeText("0"), one), api.OK}, {pair(wholeText(long), wholeText(long)), api.OK}, {pair(zero, zero), api.OK}, {pair(double, double), api.OK},
 		{api.Form{}, api.ErrType}, {api.Form{Kind: api.FormSymbol, Text: "1"}, api.ErrType}, {api.Form{Kind: api.FormChar, Text: "1"}, api.ErrType}, {api.Form{Kind: api.FormString, Text: long + "7"}, api.ErrType}, {api.Form{Kind: -1}, api.ErrType}, {api.Form{Kind: 99}, api.ErrType},
 		{wholeText(long + "7"), api.ErrLarge}, {wholeText(long + "?"), api.ErrLarge}, {singleBits(long + "?"), api.ErrLarge}, {pair(one, wholeText(long+"7")), api.ErrLarge}, {pair(wholeText("01"), wholeText(long+"7")), api.ErrLarge}, {api.Form{Kind: api.FormComplex, Text: long + "?"}, api.ErrLarge},
 		{wholeText(""), api.ErrForm}, {wholeText("-"), api.ErrForm}, {wholeText("+1"), api.ErrForm}, {wholeText("01"), api.ErrForm}, {wholeText("-0"), api.ErrForm}, {wholeText("-01"), api.ErrForm}, {wholeText("00"), api.ErrForm}, {wholeText("--1"), api.ErrForm}, {wholeText("-+1"), api.ErrForm}, {wholeText("1a"), api.ErrForm}, {wholeText("1/2"), api.ErrForm}, {withKids(one), api.ErrForm}, {withHome(one), api.ErrForm},
@@ -154,6 +154,15 @@ func TestLargeResults(t *testing.T) {
 	if s := show(Sub(x, wholeText("1"))); s != nines[1:]+"8" {
 		t.Errorf("Sub: %.30s", s)
 	}
+	if s := show(Conjugate(pair(x, x))); s != "14" {
+		t.Errorf("Conjugate: %.30s", s)
+	}
+	if s := show(Conjugate(pair(x, wholeText("-"+nines[1:])))); s != "#C("+nines+" "+nines[1:]+")" {
+		t.Errorf("Conjugate: %.30s", s)
+	}
+	if z, e := Complex(x, x); e != api.OK || Check(z) != api.OK {
+		t.Errorf("Complex: %v", e)
+	}
 	if s := show(Abs(wholeText("-" + nines[1:]))); s != nines[1:] {
 		t.Errorf("Abs: %.30s", s)
 	}
@@ -252,6 +261,14 @@ func TestPowers(t *testing.T) {
 	}
 	if s := show(Power(wholeText("-65536"), -4096)); s != "14" {
 		t.Errorf("-65536^-4096: %.30s", s)
+	}
+	// 2^13107 to the power of 5 has 65536 bits
+	most := must(t)(Shift(wholeText("1"), 13107))
+	if s := show(Power(most, 5)); len(s) != 19729 {
+		t.Errorf("2^65535: %.30s", s)
+	}
+	if s := show(Power(must(t)(Div(wholeText("1"), most)), 5)); len(s) != 19731 {
+		t.Errorf("2^-65535: %.30s", s)
 	}
 	// a product on the way that is too large, though what it is part of is not: (2^32768)^2 - the same
 	big := must(t)(Shift(wholeText("1"), 33000))

@@ -177,9 +177,8 @@ func Float(x api.Form, kind int) (api.Form, api.Errno) {
 		return api.Form{}, api.ErrArg
 	}
 	var c calculator
-	z.parts[0] = c.toKind(z.parts[0], to)
-	if z.complex {
-		z.parts[1] = c.toKind(z.parts[1], to)
+	for i, part := range z.parts {
+		z.parts[i] = c.toKind(part, to)
 	}
 	return c.result(z)
 }

@@ -110,6 +110,9 @@ func TestKinds(t *testing.T) {
 	}
 	for _, c := range []struct{ x, rational, rationalize string }{
 		{"0.33333334", "11184811/33554432", "1/3"}, {"0.0", "0", "0"}, {"-0.0", "0", "0"}, {"-0d0", "0", "0"}, {"0.1", "13421773/134217728", "1/10"}, {"-0.1", "-13421773/134217728", "-1/10"}, {"2/3", "2/3", "2/3"}, {"16777218.0", "16777218", "16777218"}, {"16777216.0", "16777216", "16777216"}, {"1.5d0", "3/2", "3/2"}, {"0.1d0", "3602879701896397/36028797018963968", "1/10"}, {"3.1415927", "13176795/4194304", "93343/29712"}, {"#C(1.0 0.0)", "13", "13"}, {"5.0", "5", "5"},
+		{"33554432.0", "33554432", "33554431"},                                         // the end half-way below belongs to a float with an even significand
+		{"33554436.0", "33554436", "33554435"}, {"33554430.0", "33554430", "33554430"}, // and to none with an odd one
+		{"9.313226e-10", "1/1073741824", "1/1073741761"}, // the float above is farther away than that below
 		{"3.4028235e38", "340282346638528859811704183484516925440", "340282336497324057985868971510891282433"},
 	} {
 		if a, b := show(Rational(num(t, c.x))), show(Rationalize(num(t, c.x))); a != c.rational || b != c.rationalize {
@@ -197,6 +200,7 @@ func TestIntegers(t *testing.T) {
 	}{
 		{nil, "0", "1"}, {list("12", "-18"), "6", "36"}, {list("4", "6"), "2", "12"}, {list("0"), "0", "0"}, {list("0", "-5"), "5", "0"}, {list("-7"), "7", "7"}, {list("6", "10", "15"), "1", "30"}, {list("1.0"), "13", "13"}, {list("2", "1/2"), "13", "13"}, {list("2", "#C(0 1)"), "13", "13"}, {list("0", "1.0"), "13", "13"},
 		{[]api.Form{big, other}, "1", "14"}, {[]api.Form{big, other, wholeText("0")}, "1", "0"}, {[]api.Form{wholeText("1.0"), num(t, "1.0")}, "2", "2"}, {[]api.Form{num(t, "1.0"), wholeText("01")}, "13", "13"},
+		{[]api.Form{must(t)(Shift(wholeText("1"), api.MaxBits-1))}, show(Shift(wholeText("1"), api.MaxBits-1)), show(Shift(wholeText("1"), api.MaxBits-1))},
 		{[]api.Form{wholeText(strings.Repeat("9", api.MaxDigits))}, strings.Repeat("9", api.MaxDigits), "14"},
 	} {
 		if g, l := show(Gcd(c.l)), show(Lcm(c.l)); g != c.gcd || l != c.lcm {
