@@ -38,7 +38,7 @@ func (t *Table) Export(pack string, symbol int) api.Errno {
 	if e != api.OK {
 		return e
 	}
-	if found, status := p.accessible(name); status == None || found != symbol {
+	if found, _ := p.accessible(name); found != symbol {
 		return ErrAccess
 	}
 	for _, user := range t.users(p) {
@@ -57,7 +57,7 @@ func (t *Table) Unexport(pack string, symbol int) api.Errno {
 	if e != api.OK {
 		return e
 	}
-	if found, status := p.accessible(name); status == None || found != symbol {
+	if found, _ := p.accessible(name); found != symbol {
 		return ErrAccess
 	}
 	if p.name == keyword {

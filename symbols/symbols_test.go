@@ -266,7 +266,7 @@ func TestCommands(t *testing.T) {
 	}{
 		{nil, "export P 0", api.OK, "P - 0 - -", ""}, {nil, "export P 1", ErrAccess, "", ""}, {nil, "export P 3", ErrAccess, "", ""}, {nil, "export R 0", ErrAccess, "", ""}, {[]string{"export P 0"}, "export P 0", api.OK, "", ""}, {[]string{"export P 0"}, "export Q 0", api.OK, "Q 1 0 - P", ""}, {[]string{"intern Q X"}, "export P 0", ErrClash, "", ""}, {[]string{"intern Q X", "shadow Q X"}, "export P 0", api.OK, "P - 0 - -", ""}, {[]string{"export R 2", "use Q R"}, "export P 0", ErrClash, "", ""}, {[]string{"import Q 0"}, "export P 0", api.OK, "P - 0 - -", ""}, {[]string{"export P 0", "import R 3", "export R 3", "use Q R", "unintern R 3"}, "export Q 0", api.OK, "Q 1 0 - P,R", ""},
 		{[]string{"export R 2", "make S - R", "import Q 2", "export R 2", "unintern R 2"}, "export Q 2", api.OK, "Q 1 2 - P", ""},
-		{[]string{"export P 0"}, "unexport P 0", api.OK, "P 0 - - -", ""}, {nil, "unexport P 0", api.OK, "", ""}, {[]string{"export P 0"}, "unexport Q 0", api.OK, "", ""}, {nil, "unexport Q 0", ErrAccess, "", ""}, {nil, "unexport KEYWORD 0", ErrAccess, "", ""}, {[]string{"intern KEYWORD K"}, "unexport KEYWORD 4", api.ErrArg, "", ""}, {[]string{"import KEYWORD 3"}, "unexport KEYWORD 3", api.ErrArg, "", ""},
+		{[]string{"export P 0"}, "unexport P 0", api.OK, "P 0 - - -", ""}, {nil, "unexport P 0", api.OK, "", ""}, {[]string{"export P 0"}, "unexport Q 0", api.OK, "", ""}, {nil, "unexport Q 0", ErrAccess, "", ""}, {nil, "unexport R 0", ErrAccess, "", ""}, {[]string{"export R 2"}, "unexport R 0", ErrAccess, "", ""}, {nil, "unexport KEYWORD 0", ErrAccess, "", ""}, {[]string{"intern KEYWORD K"}, "unexport KEYWORD 4", api.ErrArg, "", ""}, {[]string{"import KEYWORD 3"}, "unexport KEYWORD 3", api.ErrArg, "", ""},
 		{nil, "import R 1", api.OK, "R 1,2 - - -", ""}, {nil, "import R 0", ErrClash, "", ""}, {nil, "import P 0", api.OK, "", ""}, {[]string{"export P 0"}, "import P 0", api.OK, "", ""}, {[]string{"export P 0"}, "import Q 0", api.OK, "Q 0,1 - - P", ""}, {[]string{"export P 0"}, "import Q 2", ErrClash, "", ""}, {nil, "import Q 3", api.OK, "Q 1,3 - - P", "P Q R Q"}, {nil, "import KEYWORD 3", api.OK, "KEYWORD 3 - - -", "P Q R KEYWORD"}, {[]string{"shadow R X"}, "import R 0", ErrClash, "", ""}, {[]string{"import Q 0", "unintern P 0"}, "import Q 0", api.OK, "", ""}, {[]string{"import Q 0", "unintern P 0"}, "import P 0", api.OK, "P 0 - - -", "P Q R -"},
 		{nil, "shadow P X", api.OK, "P 0 - 0 -", ""}, {nil, "shadow P Y", api.OK, "P 0,4 - 4 -", ""}, {[]string{"export P 0"}, "shadow P X", api.OK, "P - 0 0 -", ""}, {[]string{"export P 0"}, "shadow Q X", api.OK, "Q 1,4 - 4 P", ""}, {nil, "shadow KEYWORD K", api.OK, "KEYWORD 4 - 4 -", ""}, {[]string{"shadow P X"}, "shadow P X", api.OK, "", ""},
 		{nil, "shadowing R 1", api.OK, "R 1,2 - 1 -", ""}, {nil, "shadowing R 0", api.OK, "R 0 - 0 -", "P Q - -"}, {[]string{"export R 2"}, "shadowing R 0", api.OK, "R 0 - 0 -", "P Q - -"}, {nil, "shadowing P 0", api.OK, "P 0 - 0 -", ""}, {[]string{"export P 0"}, "shadowing P 0", api.OK, "P - 0 0 -", ""}, {[]string{"export P 0"}, "shadowing Q 0", api.OK, "Q 0,1 - 0 P", ""}, {[]string{"export P 0"}, "shadowing Q 2", api.OK, "Q 1,2 - 2 P", ""}, {nil, "shadowing Q 3", api.OK, "Q 1,3 - 3 P", ""}, {[]string{"export R 2", "import P 1", "shadow Q X", "export P 0", "use Q R"}, "shadowing Q 0", api.OK, "Q 0,1 - 0 P,R", "P Q R -"}, {[]string{"shadow R X"}, "shadowing R 0", api.OK, "R 0 - 0 -", "P Q - -"},
@@ -293,7 +293,10 @@ func TestCommands(t *testing.T) {
 			t.Errorf("the command %d, %s after %q: %q, %s; want %q, %s", i, c.command, c.before, changed, homes, c.after, c.homes)
 		}
 	}
-	s := table(t, "make P - -", "intern P X")
+	s := table(t, "make P - -", "intern P X", "export P 0", "make Q - -", "intern Q X", "export Q 1", "make R - -", "shadow R X", "use R P", "use R Q")
+	if is, e := s.Unintern("R", 2); is || e != ErrClash {
+		t.Errorf("Unintern of what shadows a conflict = %v, %v", is, e)
+	}
 	first, e := s.Unintern("P", 0)
 	second, f := s.Unintern("P", 0)
 	if !first || second || e != api.OK || f != api.OK {

@@ -71,7 +71,7 @@ func TestPotential(t *testing.T) {
 		base int
 		want bool
 	}{
-		{"1", 10, true}, {"+1", 10, true}, {"-1", 10, true}, {"1/2", 10, true}, {"1e5", 10, true}, {"-.5", 10, true}, {"12_3", 10, true}, {"^1", 10, true}, {"_1", 10, true}, {".1", 10, true}, {"1.", 10, true}, {"1/", 10, true}, {"1^", 10, true}, {"1e", 10, true}, {"1-e2", 10, true}, {"1a2b3", 10, true}, {"+-/.^_1", 10, true}, {"9", 2, true}, {"1a", 2, true},
+		{"1", 10, true}, {"0", 2, true}, {"9", 10, true}, {"+1", 10, true}, {"-1", 10, true}, {"1/2", 10, true}, {"1e5", 10, true}, {"-.5", 10, true}, {"12_3", 10, true}, {"^1", 10, true}, {"_1", 10, true}, {".1", 10, true}, {"1.", 10, true}, {"1/", 10, true}, {"1^", 10, true}, {"1e", 10, true}, {"1-e2", 10, true}, {"1a2b3", 10, true}, {"+-/.^_1", 10, true}, {"9", 2, true}, {"1a", 2, true},
 		{"ff", 16, true}, {"FF", 16, true}, {"ffg", 16, true}, {"zz", 36, true}, {"a", 11, true}, {"a+b", 12, true}, {"fgf", 16, true},
 		{"", 10, false}, {"+", 10, false}, {"-", 10, false}, {".", 10, false}, {"1+", 10, false}, {"1-", 10, false}, {"/1", 10, false}, {"abc", 10, false}, {"1ab", 10, false}, {"a1", 10, false}, {"ff", 10, false}, {"b", 11, false}, {"fggf", 16, false}, {"1:2", 10, false}, {"1 2", 10, false}, {"1é", 10, false}, {"é1", 10, false}, {"+e", 10, false}, {"１", 10, false}, {"1`", 10, false}, {"1@", 10, false}, {"1[", 10, false}, {"1{", 10, false}, {"1!", 10, false}, {"g1", 16, false}, {"1+e+", 10, false},
 	} {
@@ -188,6 +188,14 @@ func TestWritten(t *testing.T) {
 		if s, e := Written(c.x, c.n, 10); s != c.want || e != c.e {
 			t.Errorf("Written(%v, %.20v) = %.20q, %v; want %q, %v", c.x, c.n, s, e, c.want, c.e)
 		}
+	}
+	// a text that is too long is not read as the symbol
+	half := long[:api.MaxSource/2]
+	if s, e := Written(Table{}, Name{External, half, half}, 10); s != "|"+half+"|:|"+half+"|" || e != api.OK {
+		t.Errorf("Written of long names = %.9q, %v", s, e)
+	}
+	if s, e := Written(Table{}, Name{External, half, half[1:]}, 10); s != strings.ToLower(half+":"+half[1:]) || e != api.OK {
+		t.Errorf("Written of long names = %.9q, %v", s, e)
 	}
 	if s, e := Written(Table{}, Name{External, "FF", "AG"}, 16); s != "|FF|:|AG|" || e != api.OK {
 		t.Errorf("Written in the base 16 = %q, %v", s, e)
