@@ -4,6 +4,7 @@ import (
 	"slices"
 
 	"commonform/api"
+	"commonform/tree"
 )
 
 // Adjust gives an array other dimensions.
@@ -27,7 +28,7 @@ func (r *Room) Adjust(a int, dims []int, fill int, initial api.Form) api.Errno {
 	if e := checkElement(initial, old.Bits); e != api.OK {
 		return e
 	}
-	next := stored{Array: old, own: r.moved(a, dims, copyOf(initial))}
+	next := stored{Array: old, own: r.moved(a, dims, tree.Copy(initial))}
 	next.Dims, next.Fill, next.Target, next.Offset = slices.Clone(dims), fill, noTarget, 0
 	return r.replace(a, next)
 }

@@ -6,6 +6,7 @@ import (
 
 	"commonform/api"
 	"commonform/forms"
+	"commonform/tree"
 )
 
 // Total returns how many elements an array has.
@@ -89,7 +90,7 @@ func (r *Room) Get(a, index int) (api.Form, api.Errno) {
 	if e := r.checkIndex(a, index); e != api.OK {
 		return api.Form{}, e
 	}
-	return copyOf(*r.element(a, index)), api.OK
+	return tree.Copy(*r.element(a, index)), api.OK
 }
 
 // Set changes an element by its row-major index.
@@ -100,7 +101,7 @@ func (r *Room) Set(a, index int, x api.Form) api.Errno {
 	if e := checkElement(x, r.arrays[a].Bits); e != api.OK {
 		return e
 	}
-	*r.element(a, index) = copyOf(x)
+	*r.element(a, index) = tree.Copy(x)
 	return api.OK
 }
 
@@ -109,7 +110,7 @@ func (r *Room) Contents(a int) ([]api.Form, api.Errno) {
 	if e := r.check(a); e != api.OK {
 		return nil, e
 	}
-	return copies(r.shown(a)), api.OK
+	return tree.Copies(r.shown(a)), api.OK
 }
 
 // shown returns the elements of an array's contents, whose parts are still the room's.
@@ -130,7 +131,7 @@ func (r *Room) Form(a int) (api.Form, api.Errno) {
 	if forms.Check(f) != api.OK { // its parts are right, so that it can only be too large
 		return api.Form{}, api.ErrSize
 	}
-	return copyOf(f), api.OK
+	return tree.Copy(f), api.OK
 }
 
 func formOf(a Array, elements []api.Form) api.Form {

@@ -4,6 +4,7 @@ import (
 	"slices"
 
 	"commonform/api"
+	"commonform/tree"
 )
 
 const operations = 16 // of two bits
@@ -41,7 +42,7 @@ func (r *Room) Push(a int, x api.Form, extend int) (int, api.Errno) {
 			return 0, e
 		}
 	}
-	*r.element(a, vector.Fill) = copyOf(x)
+	*r.element(a, vector.Fill) = tree.Copy(x)
 	r.arrays[a].Fill++
 	return vector.Fill, api.OK
 }
@@ -68,7 +69,7 @@ func (r *Room) Pop(a int) (api.Form, api.Errno) {
 		return api.Form{}, ErrFill
 	}
 	vector.Fill--
-	return copyOf(*r.element(a, vector.Fill)), api.OK
+	return tree.Copy(*r.element(a, vector.Fill)), api.OK
 }
 
 // Boole combines two bit arrays into a third one.

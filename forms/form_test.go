@@ -6,6 +6,7 @@ import (
 	"testing"
 
 	"commonform/api"
+	"commonform/tree"
 )
 
 // P1.1: the table of forms.
@@ -239,7 +240,7 @@ func TestSizes(t *testing.T) {
 	}
 	eachForm(t, func(f api.Form) {
 		n, d := Size(f)
-		if m, c := Size(clone(f)); n != m || d != c || n != strings.Count(show(f), ":")/2 {
+		if m, c := Size(tree.Copy(f)); n != m || d != c || n != strings.Count(show(f), ":")/2 {
 			t.Errorf("Size of %s = %d, %d", show(f), n, d)
 		}
 	})

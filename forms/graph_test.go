@@ -7,6 +7,7 @@ import (
 	"testing"
 
 	"commonform/api"
+	"commonform/tree"
 )
 
 func sameGraph(a, b []Node) bool {
@@ -383,7 +384,7 @@ func beside(t *testing.T, a, b []Node) []Node {
 }
 
 func shiftLabels(f api.Form, by int) api.Form {
-	f = clone(f)
+	f = tree.Copy(f)
 	if f.Kind == api.FormLabel || f.Kind == api.FormRef {
 		n, _ := strconv.Atoi(f.Text)
 		f.Text = strconv.Itoa(n + by)

@@ -4,6 +4,7 @@ import (
 	"strconv"
 
 	"commonform/api"
+	"commonform/tree"
 )
 
 // Normal returns a form with as few labels as possible, in order.
@@ -66,7 +67,7 @@ func (n *normalizer) rewrite(f api.Form) api.Form {
 	case api.FormRef:
 		l := n.labels[f.Text]
 		if !l.used {
-			return clone(l.kid)
+			return tree.Copy(l.kid)
 		}
 		return api.Form{Kind: api.FormRef, Text: l.text}
 	case api.FormLabel:

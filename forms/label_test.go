@@ -5,6 +5,7 @@ import (
 	"testing"
 
 	"commonform/api"
+	"commonform/tree"
 )
 
 // P1.1: the examples of the chapter, and what a label stands for.
@@ -68,7 +69,7 @@ func deep(n int, f api.Form) api.Form {
 
 // renumber returns a form whose labels have other numbers.
 func renumber(f api.Form) api.Form {
-	f = clone(f)
+	f = tree.Copy(f)
 	if f.Kind == api.FormLabel || f.Kind == api.FormRef {
 		n, _ := strconv.Atoi(f.Text)
 		f.Text = strconv.Itoa(999 - n)

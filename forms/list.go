@@ -4,17 +4,18 @@ import (
 	"unicode/utf8"
 
 	"commonform/api"
+	"commonform/tree"
 )
 
 // List returns a proper list.
-func List(l []api.Form) api.Form { return join(cloneAll(l), Nil()) }
+func List(l []api.Form) api.Form { return join(tree.Copies(l), Nil()) }
 
 // Dotted returns a list with a tail.
-func Dotted(l []api.Form, tail api.Form) api.Form { return join(cloneAll(l), clone(tail)) }
+func Dotted(l []api.Form, tail api.Form) api.Form { return join(tree.Copies(l), tree.Copy(tail)) }
 
 // Call returns the list of a symbol of COMMON-LISP and its arguments.
 func Call(name string, l []api.Form) api.Form {
-	items := append([]api.Form{Symbol(nilHome, name)}, cloneAll(l)...)
+	items := append([]api.Form{Symbol(nilHome, name)}, tree.Copies(l)...)
 	return join(items, Nil())
 }
 
@@ -44,16 +45,16 @@ func Items(f api.Form) ([]api.Form, bool) {
 	if !isList(f) || !IsNil(f.Kids[len(f.Kids)-1]) {
 		return nil, false
 	}
-	return cloneAll(f.Kids[:len(f.Kids)-1]), true
+	return tree.Copies(f.Kids[:len(f.Kids)-1]), true
 }
 
 // Spread returns the elements of a list, and its tail.
 func Spread(f api.Form) ([]api.Form, api.Form) {
 	if !isList(f) {
-		return nil, clone(f)
+		return nil, tree.Copy(f)
 	}
 	last := len(f.Kids) - 1
-	return cloneAll(f.Kids[:last]), clone(f.Kids[last])
+	return tree.Copies(f.Kids[:last]), tree.Copy(f.Kids[last])
 }
 
 // Dimensions returns the dimensions of an array.

@@ -8,6 +8,7 @@ import (
 
 	"commonform/api"
 	"commonform/forms"
+	"commonform/tree"
 )
 
 const maxDimension = 2000
@@ -21,7 +22,7 @@ func Array(rank int, contents api.Form) (api.Form, api.Errno) {
 		return api.Form{}, api.ErrArg
 	}
 	if rank == 0 {
-		return api.Form{Kind: api.FormArray, Kids: []api.Form{clone(contents)}}, api.OK
+		return api.Form{Kind: api.FormArray, Kids: []api.Form{tree.Copy(contents)}}, api.OK
 	}
 	dimensions, ok := measure(rank, contents)
 	if !ok {
@@ -35,7 +36,7 @@ func Array(rank int, contents api.Form) (api.Form, api.Errno) {
 		f = api.Form{Kind: api.FormArray, Text: dimensionText(dimensions)}
 	}
 	for element := range leaves(rank, contents) {
-		f.Kids = append(f.Kids, clone(element))
+		f.Kids = append(f.Kids, tree.Copy(element))
 	}
 	return f, api.OK
 }

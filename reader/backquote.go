@@ -4,6 +4,7 @@ import (
 	"commonform/api"
 	"commonform/forms"
 	"commonform/notation"
+	"commonform/tree"
 )
 
 // Backquote returns the form that makes what stands behind a backquote.
@@ -23,7 +24,7 @@ func Backquote(f api.Form) (result api.Form, e api.Errno) {
 	if nodes, depth := forms.Size(made); nodes > api.MaxForm || depth > api.MaxDepth {
 		return api.Form{}, api.ErrSize
 	}
-	return clone(made), api.OK
+	return tree.Copy(made), api.OK
 }
 
 func hasLabel(f api.Form) bool {

@@ -8,6 +8,7 @@ import (
 	"commonform/forms"
 	"commonform/number"
 	"commonform/token"
+	"commonform/tree"
 )
 
 const keyword = "KEYWORD"
@@ -75,7 +76,7 @@ func (r *reading) result() Result {
 		if tooLarge(f) {
 			r.fail(from, api.ErrSize)
 		}
-		return Result{Form: clone(f), References: r.references, From: from, To: r.at}
+		return Result{Form: tree.Copy(f), References: r.references, From: from, To: r.at}
 	}
 }
 

@@ -4,6 +4,7 @@ import (
 	"slices"
 
 	"commonform/api"
+	"commonform/tree"
 )
 
 // chosen returns which elements of a sequence are taken, as many as the count says, from the front or from the end.
@@ -31,7 +32,7 @@ func Remove(x api.Form, l []api.Form, o Options) ([]api.Form, api.Errno) {
 	var left []api.Form
 	for i, element := range l {
 		if !t.has(i) {
-			left = append(left, copyOf(element))
+			left = append(left, tree.Copy(element))
 		}
 	}
 	return left, api.OK
@@ -48,7 +49,7 @@ func Substitute(other, x api.Form, l []api.Form, o Options) ([]api.Form, api.Err
 		if t.has(i) {
 			element = other
 		}
-		all = append(all, copyOf(element))
+		all = append(all, tree.Copy(element))
 	}
 	return all, api.OK
 }
@@ -70,7 +71,7 @@ func Distinct(l []api.Form, o Options) ([]api.Form, api.Errno) {
 	var left []api.Form
 	for i, element := range l {
 		if !t.has(i) {
-			left = append(left, copyOf(element))
+			left = append(left, tree.Copy(element))
 		}
 	}
 	return left, api.OK
@@ -84,7 +85,7 @@ func Subsequence(l []api.Form, start, end int) ([]api.Form, api.Errno) {
 	if e := checkBounds(start, end, len(l)); e != api.OK {
 		return nil, e
 	}
-	return copies(l[start:closed(end, len(l))]), api.OK
+	return tree.Copies(l[start:closed(end, len(l))]), api.OK
 }
 
 // Replace returns the elements with some replaced by those of another sequence.
@@ -98,8 +99,8 @@ func Replace(l, m []api.Form, start, end, from, to int) ([]api.Form, api.Errno) 
 	if e := checkBounds(from, to, len(m)); e != api.OK {
 		return nil, e
 	}
-	all := copies(l)
-	copy(all[start:closed(end, len(l))], copies(m[from:closed(to, len(m))]))
+	all := tree.Copies(l)
+	copy(all[start:closed(end, len(l))], tree.Copies(m[from:closed(to, len(m))]))
 	return all, api.OK
 }
 
@@ -111,9 +112,9 @@ func Fill(l []api.Form, x api.Form, start, end int) ([]api.Form, api.Errno) {
 	if e := checkBounds(start, end, len(l)); e != api.OK {
 		return nil, e
 	}
-	all := copies(l)
+	all := tree.Copies(l)
 	for i := range looked(start, closed(end, len(l)), false) {
-		all[i] = copyOf(x)
+		all[i] = tree.Copy(x)
 	}
 	return all, api.OK
 }
@@ -123,7 +124,7 @@ func Reverse(l []api.Form) ([]api.Form, api.Errno) {
 	if e := checkSize(l); e != api.OK {
 		return nil, e
 	}
-	all := copies(l)
+	all := tree.Copies(l)
 	slices.Reverse(all)
 	return all, api.OK
 }

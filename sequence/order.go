@@ -4,6 +4,7 @@ import (
 	"slices"
 
 	"commonform/api"
+	"commonform/tree"
 )
 
 // keyed is an element with what of it counts.
@@ -64,7 +65,7 @@ func (o ordering) sorted(l []keyed) []keyed {
 func elements(l []keyed) []api.Form {
 	var all []api.Form
 	for _, x := range l {
-		all = append(all, copyOf(x.element))
+		all = append(all, tree.Copy(x.element))
 	}
 	return all
 }

@@ -1,6 +1,9 @@
 package sequence
 
-import "commonform/api"
+import (
+	"commonform/api"
+	"commonform/tree"
+)
 
 // classes gives elements numbers, which are equal if they are alike.
 type classes struct {
@@ -93,7 +96,7 @@ func Find(x api.Form, l []api.Form, o Options) (api.Form, api.Errno) {
 	if i < 0 {
 		return api.Form{}, api.ErrNone
 	}
-	return copyOf(l[i]), api.OK
+	return tree.Copy(l[i]), api.OK
 }
 
 // Position returns the index of the element that is like x, or -1.

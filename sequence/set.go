@@ -1,6 +1,9 @@
 package sequence
 
-import "commonform/api"
+import (
+	"commonform/api"
+	"commonform/tree"
+)
 
 // present returns for each element of a set whether another set has one like it, or the error of both sets, test and key.
 func present(a, b []api.Form, test, key int) ([]bool, api.Errno) {
@@ -30,7 +33,7 @@ func chosenBy(l []api.Form, marks []bool, mark bool) []api.Form {
 	var all []api.Form
 	for i, x := range l {
 		if marks[i] == mark {
-			all = append(all, copyOf(x))
+			all = append(all, tree.Copy(x))
 		}
 	}
 	return all
@@ -45,7 +48,7 @@ func Union(a, b []api.Form, test, key int) ([]api.Form, api.Errno) {
 	if e != api.OK {
 		return nil, e
 	}
-	all := append(copies(a), chosenBy(b, marks, false)...)
+	all := append(tree.Copies(a), chosenBy(b, marks, false)...)
 	if len(all) > api.MaxForm {
 		return nil, api.ErrSize
 	}

@@ -6,6 +6,7 @@ import (
 	"commonform/api"
 	"commonform/forms"
 	"commonform/number"
+	"commonform/tree"
 )
 
 // The home of symbols that stand for what has no form, and their names.
@@ -187,7 +188,7 @@ func (a atom) made() api.Form {
 	case kindArray:
 		return api.Form{Kind: api.FormArray, Text: dimensionText(a.dims), Kids: zeros(size)}
 	}
-	return forms.Dotted(nil, a.form) // a copy
+	return tree.Copy(a.form)
 }
 
 func zeros(n int) []api.Form {
