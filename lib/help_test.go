@@ -55,7 +55,7 @@ func (w tester) build(text string) heap.Word {
 	return x
 }
 
-// text returns the text of an object.
+// show returns the text of an object.
 func (w tester) show(x heap.Word) string {
 	w.t.Helper()
 	f, e := w.Show(x)

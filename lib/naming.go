@@ -78,7 +78,7 @@ func (w *World) setFunction(l []heap.Word) Answer {
 	return values(function)
 }
 
-// named returns a name, and the package in which it is looked for.
+// nameAndPackage returns a name, and the package in which it is looked for.
 func (w *World) nameAndPackage(l []heap.Word) (name, pack string) {
 	if len(l) > 1 {
 		return w.text(l[0]), w.text(l[1])

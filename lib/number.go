@@ -72,7 +72,7 @@ func integerForm(n int64) api.Form {
 	return api.Form{Kind: api.FormInt, Text: strconv.FormatInt(n, 10)}
 }
 
-// object of a number's form.
+// numberObject returns the object of a number's form.
 func (w *World) numberObject(f api.Form) heap.Word {
 	if x, ok := fixnumOf(f); ok {
 		return x

@@ -86,12 +86,15 @@ func (w *World) subtypep(l []heap.Word) Answer {
 	return values(w.is(is).Values[0], w.trueWord())
 }
 
-// handOn returns the answer by which a function, or that of a symbol, is called with arguments.
+// handOn returns the answer by which a function, or that of a symbol, is called with arguments: by the caller, unless it is a builtin one.
 func (w *World) handOn(function heap.Word, args []heap.Word) Answer {
 	if w.isOf('s', function) {
-		w.functionOf(function) // there must be one, ahead of all else
+		function = w.functionOf(function)
 	}
-	return Answer{Kind: answerAgain, Function: function, Values: args}
+	if w.heap.Kind(function) == heap.KindBuiltin {
+		return Answer{Kind: answerAgain, Function: function, Values: args}
+	}
+	return Answer{Kind: AnswerNext, Function: function, Values: args}
 }
 
 func (w *World) apply(l []heap.Word) Answer {

@@ -453,6 +453,7 @@ func TestCall(t *testing.T) {
 			t.Errorf("Call: %s; want %s", got, c.want)
 		}
 	}
+	next("FUNCALL of a symbol with another word", w.call("FUNCALL", x, args[0]), fixnum(7), args[:1])
 	w.SetFunction(x, x) // a function of a function would have no end
 	if got := w.told(w.Call(x, nil)); got != "!TYPE-ERROR x function" {
 		t.Errorf("Call: %s", got)
@@ -605,4 +606,28 @@ func TestAnyWords(t *testing.T) {
 			w.Show(words[r.Intn(len(words))])
 		}
 	}
+}
+
+// P1: no function panics in a world whose objects were taken away.
+func TestEmptied(t *testing.T) {
+	w := newTester(t, 20000)
+	w.build("(X \"a\" #1=(1 . #1#) #:Y)")
+	w.want("Keep", w.Heap().Keep(nil, nil), api.OK)
+	for _, root := range w.Heap().Roots()[:20] {
+		w.Heap().Drop(root)
+	}
+	for _, name := range Names() {
+		f, _ := w.World.Symbol(lisp, name)
+		for n := range 4 {
+			w.Call(f, slices.Repeat([]heap.Word{heap.Nil}, n))
+			w.Call(f, slices.Repeat([]heap.Word{fixnum(n)}, n))
+		}
+		w.Name(f)
+		w.Value(f)
+		w.SetFunction(f, heap.Nil)
+	}
+	w.Build(read(t, "(X \"a\" #:Y T NIL CAR NEW)"))
+	w.Show(heap.Nil)
+	w.Parts()
+	w.Register("NEW", 0, 0, func([]heap.Word) Answer { return Answer{} })
 }
