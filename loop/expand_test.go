@@ -61,6 +61,7 @@ func TestMacro(t *testing.T) {
 	for text, want := range map[string]string{
 		"(loop)":                            "(block nil (tagbody g0 (go g0)))",
 		"(loop (f) (g))":                    "(block nil (tagbody g0 (f) (g) (go g0)))",
+		"(loop named a)":                    "(block a (let* nil (tagbody g0 (go g0) g1) nil))",
 		"(loop named a always b return c)":  "(block a (let* nil (tagbody g0 (if b nil (return-from a nil)) (return-from a c) (go g0) g1) t))",
 		"(loop named a never b thereis c)":  "(block a (let* nil (tagbody g0 (if b (return-from a nil)) (let* ((g2 c)) (if g2 (return-from a g2))) (go g0) g1) t))",
 		"(loop collect a collect b into z)": "(block nil (let* ((g2 nil) (z nil)) (tagbody g0 (setq g2 (append g2 (list a))) (setq z (append z (list b))) (go g0) g1) g2))",
@@ -74,6 +75,9 @@ func TestMacro(t *testing.T) {
 // P24.1: the order of errors, and limits.
 func TestExpandErrors(t *testing.T) {
 	isZero := func(f api.Form, n int) bool { return forms.Equal(f, api.Form{}) && n == 0 }
+	if loop.ErrKind != 260 {
+		t.Error(loop.ErrKind)
+	}
 	for _, c := range []struct {
 		text  string
 		fresh int

@@ -8,9 +8,11 @@ import (
 	"commonform/api"
 	"commonform/core"
 	"commonform/forms"
+	"commonform/heap"
 	"commonform/lib"
 	"commonform/lisp"
 	"commonform/macro"
+	"commonform/meaning"
 )
 
 // checkAll checks expansions of forms in a table; those of the same text stay as they are.
@@ -50,6 +52,7 @@ func TestAllOfSpecialForms(t *testing.T) {
 		"(function (lambda (&key a (b (and)) ((:c c) (or) d) ((e f)) &allow-other-keys &aux g (h (and)) (i)) (declare (foo)) (and)))", "(function (lambda (&key a (b t) ((:c c) nil d) ((e f)) &allow-other-keys &aux g (h t) (i)) (declare (foo)) t))",
 		"(function (lambda nil))", "", "(function (lambda (x x) (and x)))", "(function (lambda (x x) x))", "(let ((x 1) (x 2)) (and x))", "(let ((x 1) (x 2)) x)",
 		"(when (unless a b) (cond (c)))", "(if (if a nil (progn b)) (progn (let ((g0 c)) (if g0 g0 nil))))",
+		"(let nil (declare (special x)))", "", "(progv a b)", "", "(other::if (and))", "(other::if t)", "(other::quote (and))", "(other::quote t)",
 		"(declare (special x))", "", "(progn (declare x))", "",
 	)
 }
@@ -57,7 +60,7 @@ func TestAllOfSpecialForms(t *testing.T) {
 // P22.1: forms that are no expanded forms where they must be some.
 func TestAllErrors(t *testing.T) {
 	w := newWorld(t)
-	for _, text := range strings.Split(`(f . x)|(5 x)|(nil x)|(t)|(:k 1)|("f")|((f) x)|((lambda) 1)|((lambda 5 x) 1)|((function f) 1)
+	for _, text := range strings.Split(`(f . x)|(5 x)|(nil x)|(t)|(:k 1)|("f")|((f) x)|((lambda) 1)|((lambda 5 x) 1)|((function f) 1)|((other nil 5) 1)|(function (other nil 5))
 (quote)|(quote a b)|(quote . a)|(function)|(function f g)|(function 5)|(function nil)|(function :k)|(function (setf f))|(function (lambda))|(function (lambda 5))|(function (lambda (5)))|(function (lambda ((a b)) a))|(function (lambda (&whole x)))|(function (lambda nil . x))
 (if)|(if a)|(if a b c d)|(let)|(let 5)|(let (5))|(let ((5 1)))|(let ((x 1 2)))|(let ((nil 1)))|(let (:k))|(let ((x . 1)))|(let ((a 1) . b))|(let* x)|(let* (()))|(setq x)|(setq 5 1)|(setq nil 1)|(setq (a) 1)|(setq x 1 y)
 (block)|(block 5)|(return-from)|(return-from 5)|(return-from a b c)|(go)|(go a b)|(go (a))|(go "a")|(catch)|(throw a)|(throw a b c)|(unwind-protect)|(multiple-value-call)|(multiple-value-prog1)|(progv a)|(the a)|(the a b c)|(load-time-value)|(load-time-value a b c)
@@ -123,7 +126,7 @@ func TestEnvironments(t *testing.T) {
 		"(symbol-macrolet ((x 1)) (macrolet ((m nil 'x)) (m) (let ((x 2)) (m))))", "(locally (locally 1 (let ((x 2)) x)))",
 		"(macrolet nil (declare (special x)) (and))", "(locally (declare (special x)) t)",
 		"(macrolet ((m (x) (list 'f x)) (f (x) x)) (m (and)))", "(locally t)",
-		"(macrolet ((m nil 1) (m nil 2)) (m))", "(locally 1)", "(macrolet ((m nil 1)) (macrolet ((m nil 2)) (m)) (m))", "(locally (locally 2) 1)",
+		"(macrolet ((m nil 1) (m nil 2)) (m))", "(locally 1)", "(macrolet ((m nil)) (m))", "(locally nil)", "(macrolet ((m nil 1)) (macrolet ((m nil 2)) (m)) (m))", "(locally (locally 2) 1)",
 		"(macrolet ((m nil 1)) (flet ((m nil (m))) (m)) (labels ((m nil (m))) (m)))", "(locally (flet ((m nil 1)) (m)) (labels ((m nil (m))) (m)))",
 		"(flet ((m nil 1)) (macrolet ((m nil 2)) (m)) (m))", "(flet ((m nil 1)) (locally 2) (m))",
 		"(macrolet ((when (x) x)) (when 1) (unless 2))", "(locally 1 (if 2 nil (progn)))", "(macrolet ((if (x) x)) (if 1 2))", "(locally (if 1 2))",
@@ -142,14 +145,14 @@ func TestUserMacros(t *testing.T) {
 		"(defmacro m (x) 5)", "(defmacro m (x &rest y) (list 'list x (list 'quote y)))", "(defmacro when (x) (list 'unless x))", "(defmacro none () (values))", "(defmacro two () (values 1 2))",
 		"(defmacro dotted (a . b) (list 'quote b))", "(defmacro fail () (car 5))", "(defmacro endless () (tagbody a (go a)))", "(defmacro ring () (let ((x (list 1))) (rplacd x x)))",
 		"(defmacro shared () (let ((x (list 'f))) (list 'list x x)))", "(defmacro whole (x) (list 'quote x))", "(defmacro if (x) x)", "(defmacro decl () '(declare (special x)))",
-		"(defmacro odd () (function car))", "(defmacro whatever (x) 7)", "(defmacro large () (let ((l nil)) (dotimes (i 260) (setq l (cons i l))) (list 'quote (list l l l l l l l l))))")
+		"(defmacro odd () (function car))", "(defmacro whatever (x) 7)", "(defmacro long () (let ((l '(1 2 3 4 5 6 7 8 9))) (dotimes (i 8) (setq l (append l l))) l))", "(defmacro large () (let ((l nil)) (dotimes (i 260) (setq l (cons i l))) (list 'quote (list l l l l l l l l))))")
 	checkAll(t, table,
 		"(m 1)", "(list 1 'nil)", "(m (m 2) 3 4)", "(list (list 2 'nil) '(3 4))", "(when a)", "(if a nil (progn))", "(none)", "nil", "(two)", "1", "(dotted 1 . 2)", "'2", "(shared)", "(list (f) (f))",
 		"(if 1 2)", "", "(flet ((m (x) x)) (m 1))", "", "(odd)", "%::builtin", "(whatever #1=(a . #1#))", "7", "(progn (whatever #1=(a #1#)))", "(progn 7)",
 	)
 	for text, want := range map[string]lib.End{
 		"(m)": {Kind: lib.EndFault}, "(f (fail))": {Kind: lib.EndFault}, "(endless)": {Kind: lib.EndLimit, Code: api.ErrSteps}, "(ring)": {Kind: lib.EndBad, Code: forms.ErrCircle},
-		"(whole #1=(a #1#))": {Kind: lib.EndBad, Code: forms.ErrCircle}, "(let nil (decl))": {Kind: lib.EndBad, Code: api.ErrForm}, "(large)": {Kind: lib.EndBad, Code: api.ErrSize},
+		"(whole #1=(a #1#))": {Kind: lib.EndBad, Code: forms.ErrCircle}, "(let nil (decl))": {Kind: lib.EndBad, Code: api.ErrForm}, "(large)": {Kind: lib.EndBad, Code: api.ErrSize}, "(long)": {Kind: lib.EndBad, Code: api.ErrSize},
 		"(m nowhere::a)": {Kind: lib.EndBad, Code: api.ErrNone}, "(m . 5)": {Kind: lib.EndFault}, "(list (quote #1=(a)) (whatever (quote #1#)))": {Kind: lib.EndBad, Code: forms.ErrLabel},
 	} {
 		f, n, end := macro.All(w, table, read(t, text), 0)
@@ -173,8 +176,9 @@ func TestUserMacros(t *testing.T) {
 		}
 	}
 	small, _ := lib.New(2500, 100)
+	long := lisp.Call("WHATEVER", lisp.List(slices.Repeat([]api.Form{lisp.Small(1)}, 500)...))
 	for range 2000 {
-		_, _, end := macro.All(small, table, read(t, "(two)"), 0)
+		_, _, end := macro.All(small, table, long, 0)
 		if end.Kind == lib.EndLimit && end.Code == api.ErrWords {
 			return
 		}
@@ -211,9 +215,111 @@ func TestLimits(t *testing.T) {
 			t.Errorf("%.80s: %v, expected %v", show(c.f), end, c.want)
 		}
 	}
+	wraps := lisp.Call("TAGBODY", slices.Repeat([]api.Form{lisp.Call("COND")}, 499)...) // each becomes one larger
+	if f, _, end := macro.All(w, table, wraps, 0); end.Kind != lib.EndValues || len(f.Kids) != 501 {
+		t.Error(end)
+	}
+	wraps = lisp.Call("TAGBODY", slices.Repeat([]api.Form{lisp.Call("COND")}, 500)...)
+	if f, n, end := macro.All(w, table, wraps, 0); !isBad(f, n, end, api.ErrSize) {
+		t.Error(end)
+	}
+	left := lisp.Call("SYMBOL-MACROLET", lisp.List(lisp.List(symbol("X"), vector(1000))), symbol("X")) // what is left out makes room
+	big := func(f api.Form, fresh int) (api.Form, int, api.Errno) { return vector(990), fresh, api.OK }
+	odd := func(f api.Form, fresh int) (api.Form, int, api.Errno) {
+		return api.Form{Kind: api.FormCons}, fresh, api.OK
+	}
+	others := macro.Table{Expanders: []macro.Named{{Name: "BIG", Expand: big}, {Name: "ODD", Expand: odd}}}
+	if _, _, end := macro.All(w, others, lisp.Call("LIST", left, lisp.Call("BIG")), 0); end.Kind != lib.EndValues {
+		t.Error(end)
+	}
+	if f, n, end := macro.All(w, others, lisp.Call("LIST", vector(1000), lisp.Call("BIG"), lisp.Call("BIG")), 0); !isBad(f, n, end, api.ErrSize) {
+		t.Error(end)
+	}
+	if f, n, end := macro.All(w, others, lisp.Call("ODD"), 0); !isBad(f, n, end, api.ErrForm) {
+		t.Error(end)
+	}
 	deep := read(t, "(macrolet ((a nil 1)) (macrolet ((b nil 2)) (list (a) (b))))")
 	if f, _, end := macro.All(w, table, deep, 0); end.Kind != lib.EndValues || !forms.Equal(f, read(t, "(locally (locally (list 1 2)))")) {
 		t.Error(show(f), end)
+	}
+}
+
+// P22.1: a call of a symbol macro in SETQ counts, too.
+func TestCountOfSetq(t *testing.T) {
+	w := newWorld(t)
+	for n, want := range map[int]api.Errno{999: api.OK, 1000: api.ErrDepth} {
+		l := append(slices.Repeat([]api.Form{symbol("X")}, n), lisp.Call("SETQ", symbol("X"), lisp.Small(1)))
+		f, k, end := macro.All(w, macro.New(), lisp.Body("SYMBOL-MACROLET", read(t, "((x 1))"), l), 0)
+		if want == api.OK && end.Kind != lib.EndValues || want != api.OK && !isBad(f, k, end, want) {
+			t.Errorf("%d: %v", n, end)
+		}
+	}
+}
+
+// hole returns the depth in which the symbol HOLE stands in a form.
+func hole(f api.Form) int {
+	if lisp.Is(f, "HOLE") {
+		return 1
+	}
+	for _, kid := range f.Kids {
+		if depth := hole(kid); depth > 0 {
+			return depth + 1
+		}
+	}
+	return 0
+}
+
+func filled(f, with api.Form) api.Form {
+	if lisp.Is(f, "HOLE") {
+		return with
+	}
+	return changed(f, func(k api.Form) api.Form { return filled(k, with) })
+}
+
+// P22.1: forms may be nested as deep as MaxDepth says, wherever they stand.
+func TestDepthOfPlaces(t *testing.T) {
+	w := newWorld(t)
+	for _, text := range []string{
+		"hole", "(f hole)", "(if a hole)", "(block a hole)", "(catch a hole)", "(load-time-value hole)", "(the a hole)", "(setq a hole)", "(tagbody a hole)", "(let nil hole)", "(let ((a hole)) b)", "(let* ((a 1) (b hole)) c)",
+		"(function (lambda nil hole))", "(function (lambda (&optional (a hole))))", "(function (lambda (&key ((:a b) hole))))", "(function (lambda (&aux (a hole))))", "((lambda nil hole))", "((lambda nil 1) hole)", "((lambda (&optional (a hole)) a))",
+		"(flet ((f nil hole)) 1)", "(flet ((f (&optional (a hole)))) 1)", "(flet nil hole)", "(labels ((f nil hole)) 1)", "(labels nil hole)", "(locally hole)", "(macrolet nil hole)", "(symbol-macrolet nil hole)", "(eval-when (load) hole)", "(unwind-protect a hole)",
+	} {
+		outer := read(t, text)
+		for depth, want := range map[int]api.Errno{98: api.OK, 99: api.ErrDepth} {
+			f := filled(outer, read(t, "(when a)")) // one deeper when it is expanded
+			for range depth - hole(outer) {
+				f = lisp.Call("LIST", f)
+			}
+			made, n, end := macro.All(w, macro.New(), f, 0)
+			if want == api.OK && end.Kind != lib.EndValues || want != api.OK && !isBad(made, n, end, want) {
+				t.Errorf("%s in %d: %v", text, depth, end)
+			}
+		}
+	}
+}
+
+// P22.1: the function of a macro has 10000 steps.
+func TestStepsOfMacros(t *testing.T) {
+	w := newWorld(t)
+	text := func(ones int) string {
+		return "(defmacro m () (dotimes (i 600) i) (progn 1 1" + strings.Repeat(" 1", ones) + "))"
+	}
+	taken := func(table macro.Table) int {
+		made, _ := meaning.Run(w, table.Macros[0].Lambda, api.MaxSteps)
+		_, steps := meaning.Apply(w, made.Values[0], append(made.Values[:0:0], heap.Nil), api.MaxSteps)
+		return steps
+	}
+	more := 10000 - taken(withMacros(t, w, macro.New(), text(0)))
+	if more < 0 || more > 1500 {
+		t.Fatal(more)
+	}
+	table := withMacros(t, w, macro.New(), text(more))
+	if f, _, end := macro.All(w, table, read(t, "(m)"), 0); taken(table) != 10000 || end.Kind != lib.EndValues || !forms.Equal(f, lisp.Small(1)) {
+		t.Error(taken(table), end)
+	}
+	table = withMacros(t, w, macro.New(), text(more+1))
+	if _, _, end := macro.All(w, table, read(t, "(m)"), 0); end.Kind != lib.EndLimit || end.Code != api.ErrSteps {
+		t.Error(end)
 	}
 }
 

@@ -19,7 +19,7 @@ func TestDefineMacro(t *testing.T) {
 	w := newWorld(t)
 	for _, c := range []struct{ text, list, body string }{
 		{"(defmacro m (x (y z) . r) \"doc\" (declare (foo)) (f x) y)", "(x (y z) . r)", "(declare (foo)) (block m (f x) y)"},
-		{"(defmacro m nil \"x\")", "nil", "(block m \"x\")"},
+		{"(defmacro m nil \"x\")", "nil", "(block m \"x\")"}, {"(defmacro m (x))", "(x)", "(block m)"},
 		{"(defmacro m (&key (k (and))) (when k 5))", "(&key (k t))", "(block m (if k (progn 5)))"},
 	} {
 		table, next, is, end := macro.Define(w, macro.New(), read(t, c.text), 7)

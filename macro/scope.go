@@ -26,7 +26,7 @@ func (s *scope) find(isFunction bool, name api.Form) *scope {
 	return nil
 }
 
-// expansion returns that of a symbol macro.
+// symbolMacro returns the expansion of a symbol macro.
 func (s *scope) symbolMacro(name api.Form) (api.Form, bool) {
 	found := s.find(false, name)
 	if found == nil || found.expansion == nil {
@@ -45,7 +45,7 @@ func (s *scope) functions(names []api.Form) *scope {
 	return s
 }
 
-// macros returns a scope with local macros. Of two with one name the first one counts.
+// macros returns the scope inside of one with local macros. Of two with one name the first one counts.
 func (s *scope) macros(names []api.Form, lambdas []api.Core) *scope {
 	for i, name := range slices.Backward(names) {
 		s = &scope{isFunction: true, name: name, lambda: &lambdas[i], outer: s}

@@ -46,9 +46,6 @@ func isSymbol(f api.Form) bool { return f.Kind == api.FormSymbol }
 
 // isVariable reports whether a form is a symbol that can be bound.
 func isVariable(f api.Form) bool {
-	if !isSymbol(f) {
-		return false
-	}
 	l, e := lambda.Parse(lisp.List(f), false)
 	return e == api.OK && len(l.Items) == 1
 }

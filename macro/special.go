@@ -153,20 +153,21 @@ func (x *walker) parameter(f api.Form, p position) (api.Form, []api.Form) {
 func (x *walker) let(name string, l []api.Form, p position) api.Form {
 	wantCount(l, 1, anyNumber)
 	inner := p
-	var made []api.Form
-	for _, f := range items(l[0]) {
-		binding(f, 2)
-	}
-	for _, f := range items(l[0]) {
+	made := slices.Clone(items(l[0]))
+	var variables []api.Form
+	var inits [][]api.Form
+	for _, f := range made {
 		v, rest := binding(f, 2)
+		variables, inits = append(variables, v), append(inits, rest)
+	}
+	for i, v := range variables {
 		at := p
 		if name == "LET*" {
 			at = inner
 		}
-		if len(rest) > 0 {
-			f = lisp.List(v, x.form(rest[0], at.inside(3)))
+		if len(inits[i]) > 0 {
+			made[i] = lisp.List(v, x.form(inits[i][0], at.inside(3)))
 		}
-		made = append(made, f)
 		inner.scope = inner.scope.variable(v)
 	}
 	return lisp.Body(name, lisp.List(made...), x.body(l[1:], inner))
@@ -252,7 +253,6 @@ func (x *walker) macrolet(f api.Form, l []api.Form, p position) api.Form {
 	for _, f := range items(l[0]) {
 		parts := items(f)
 		wantCount(parts, 2, anyNumber)
-		want(isSymbol(parts[0]))
 		names = append(names, parts[0])
 	}
 	var lambdas []api.Core

@@ -74,6 +74,7 @@ func TestOnceOfDefinitions(t *testing.T) {
 	checkOnce(t, []expansion{
 		{"(defun f (x))", "(progn (%fset 'f (function (lambda (x) (block f)))) 'f)", 0},
 		{"(defun f 5 \"a\" (declare (special x)) \"b\")", "(progn (%fset 'f (function (lambda 5 (declare (special x)) (block f \"b\")))) 'f)", 0},
+		{"(defun f nil \"a\" b)", "(progn (%fset 'f (function (lambda nil (block f b)))) 'f)", 0},
 		{"(defun f nil \"a\")", "(progn (%fset 'f (function (lambda nil (block f \"a\")))) 'f)", 0},
 		{"(defun f nil \"a\" \"b\" c)", "(progn (%fset 'f (function (lambda nil (block f \"b\" c)))) 'f)", 0},
 		{"(defun (setf other::f) (v) v)", "(progn (%fset 'other::|(SETF F)| (function (lambda (v) (block other::f v)))) 'other::|(SETF F)|)", 0},
@@ -87,7 +88,7 @@ func TestOnceOfDefinitions(t *testing.T) {
 			"(progn (%defclass 'c 'nil (list (list 'x 'nil nil nil) (list 'y 'nil nil nil))) (defmethod r ((g0 c)) (slot-value g0 'x)) (defmethod a ((g0 c)) (slot-value g0 'x)) (defmethod (setf a) (g0 (g1 c)) (%set-slot-value g1 'x g0)) (defmethod b ((g0 c)) (slot-value g0 'y)) (defmethod (setf b) (g0 (g1 c)) (%set-slot-value g1 'y g0)) 'c)", 2},
 		{"(defclass c nil ((x :initarg :a :initform 1 :initarg :b :initform 2)))", "(progn (%defclass 'c 'nil (list (list 'x ':a (function (lambda nil 1)) nil))) 'c)", 2},
 		{"(defgeneric f (a b &optional c))", "(progn (%defgeneric 'f 'standard 2) (%fset 'f (function (lambda (&rest g0) (%call-generic 'f g0)))) 'f)", 1},
-		{"(defgeneric (setf f) nil (:documentation 5) (:method-combination +) (:method-combination list))", "(progn (%defgeneric '|(SETF F)| '+ 0) (%fset '|(SETF F)| (function (lambda (&rest g0) (%call-generic '|(SETF F)| g0)))) '|(SETF F)|)", 1},
+		{"(defgeneric (setf f) nil (:documentation) (:method-combination +) (:method-combination list))", "(progn (%defgeneric '|(SETF F)| '+ 0) (%fset '|(SETF F)| (function (lambda (&rest g0) (%call-generic '|(SETF F)| g0)))) '|(SETF F)|)", 1},
 		{"(with-slots (a b) e (declare (special c)) f)", "(let ((g0 e)) (symbol-macrolet ((a (slot-value g0 'a)) (b (slot-value g0 'b))) (declare (special c)) f))", 1},
 		{"(with-slots nil e)", "(let ((g0 e)) (symbol-macrolet nil))", 1},
 	})

@@ -152,14 +152,14 @@ func safely(expand Expander, f api.Form, fresh int) (made api.Form, next int, e 
 func (x *walker) called(function api.Core, f api.Form) api.Form {
 	want(function.Op == api.CoreLambda)
 	end, _ := meaning.Run(x.world, function, api.MaxSteps)
-	x.must(end)
+	wantValues(end)
 	args, e := x.world.Build(forms.Dotted(f.Kids[1:len(f.Kids)-1], f.Kids[len(f.Kids)-1]))
 	if e == api.ErrWords {
 		panic(failure{end: lib.End{Kind: lib.EndLimit, Code: e}})
 	}
 	must(e)
 	end, _ = meaning.Apply(x.world, end.Values[0], append(end.Values[:0:0], args), maxSteps)
-	x.must(end)
+	wantValues(end)
 	if len(end.Values) == 0 {
 		return forms.Nil()
 	}
@@ -170,8 +170,8 @@ func (x *walker) called(function api.Core, f api.Form) api.Form {
 	return made
 }
 
-// must fails with an end that is not that of values.
-func (x *walker) must(end lib.End) {
+// wantValues fails with an end that is not that of values.
+func wantValues(end lib.End) {
 	if end.Kind != lib.EndValues {
 		panic(failure{end: end})
 	}
@@ -179,6 +179,7 @@ func (x *walker) must(end lib.End) {
 
 // macroFunction returns the function of a macro.
 func (x *walker) macroFunction(name, list api.Form, l []api.Form) api.Core {
+	want(isSymbol(name))
 	v := x.Fresh()
 	bound := x.bind(list, v, blockBody(name, withoutText(l)))
 	f := function(lisp.List(v), x.whole(bound))
@@ -194,8 +195,6 @@ func (x *walker) form(f api.Form, p position) api.Form {
 		return x.symbol(f, p)
 	case api.FormCons:
 		return x.list(f, p)
-	case api.FormLabel, api.FormRef:
-		fail(api.ErrForm)
 	}
 	return f
 }

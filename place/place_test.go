@@ -55,6 +55,9 @@ func TestMacro(t *testing.T) {
 // P23.1: forms that are none of the macros', and places that are none.
 func TestMacroErrors(t *testing.T) {
 	l := place.Standard()
+	if place.ErrPlace != 250 {
+		t.Error(place.ErrPlace)
+	}
 	for text, want := range map[string]api.Errno{
 		"5": api.ErrForm, "x": api.ErrForm, "nil": api.ErrForm, "(list 1)": api.ErrForm, "((setf) x)": api.ErrForm,
 		"(setf . x)": api.ErrForm, "(setf x)": api.ErrForm, "(setf 5 1 x)": api.ErrForm, "(psetf 5)": api.ErrForm,
