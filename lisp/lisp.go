@@ -20,6 +20,9 @@ func Symbol(name string) api.Form { return forms.Symbol(Home, name) }
 // Is reports whether a form is a symbol of COMMON-LISP.
 func Is(f api.Form, name string) bool { return forms.Is(f, Home, name) }
 
+// IsFirst reports whether a number may be that of the first fresh symbol that is taken.
+func IsFirst(n int) bool { return n >= 0 && n <= 1<<30 }
+
 // Fresh returns the fresh symbol with a number.
 func Fresh(n int) api.Form { return forms.Symbol(freshHome, strconv.Itoa(n)) }
 

@@ -66,6 +66,11 @@ func TestFresh(t *testing.T) {
 	if !forms.Is(first, "%", "9") || !forms.Is(second, "%", "10") || c.Next != 11 || !forms.Equal(lisp.Fresh(-1), forms.Symbol("%", "-1")) {
 		t.Error(first, second, c)
 	}
+	for n, want := range map[int]bool{-1: false, 0: true, 1 << 30: true, 1<<30 + 1: false} {
+		if lisp.IsFirst(n) != want {
+			t.Error(n)
+		}
+	}
 	if !lisp.Is(lisp.Truth(), "T") || lisp.Is(forms.Symbol("", "T"), "T") || lisp.Small(12).Text != "12" {
 		t.Error("symbols and numbers")
 	}

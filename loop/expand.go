@@ -13,7 +13,7 @@ func Expand(l []Clause, fresh int) (api.Form, int, api.Errno) {
 	if e := Check(l); e != api.OK {
 		return api.Form{}, 0, e
 	}
-	if !isFresh(fresh) {
+	if !lisp.IsFirst(fresh) {
 		return api.Form{}, 0, api.ErrArg
 	}
 	x := maker{Counter: lisp.Counter{Next: fresh}, name: forms.Nil(), result: forms.Nil()}
